@@ -1,0 +1,1 @@
+"""Hidelater: casks with ranked drops, and rounds of pourings done again for ever."""
