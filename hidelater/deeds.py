@@ -1,7 +1,7 @@
 """What is a deed, and what is a row of deeds."""
 
 from hidelater.casks import look_sizes
-from hidelater.errors import BadDeed, BadRow
+from hidelater.errors import BadDeed, BadRow, Tapped
 
 GREAT = 10 ** 30
 MOST_ROW = 400
@@ -29,6 +29,13 @@ def has_tap(sizes, deeds):
     """Whether a row of deeds has a tap."""
     look_row(sizes, deeds)
     return any([deed[0] == "tap" for deed in deeds])
+
+
+def look_dry(deeds):
+    """Refuse a row of good deeds that has a tap, by the first one."""
+    for step, deed in enumerate(deeds):
+        if deed[0] == "tap":
+            raise Tapped(step)
 
 
 def fault_place(sizes, deed):

@@ -30,6 +30,40 @@ INTERFACE = {
         "look_row": ["sizes", "deeds"],
         "has_tap": ["sizes", "deeds"],
     },
+    "ranks": {
+        "done": ["sizes", "stand", "deed"],
+        "done_all": ["sizes", "stand", "deeds"],
+        "path": ["sizes", "stand", "deeds", "rank"],
+    },
+    "amounts": {
+        "poured": ["sizes", "counts", "deed"],
+        "poured_all": ["sizes", "counts", "deeds"],
+        "by_counts": ["sizes", "stand", "deeds"],
+    },
+    "tables": {
+        "one_more": ["sizes", "counts", "deeds"],
+        "joined": ["first", "second"],
+    },
+}
+
+# The classes of the interface by file, each with its methods and their arguments behind the object itself.
+CLASSES = {
+    "rounds": {
+        "Book": {
+            "__init__": ["sizes"],
+            "write": ["name", "steps"],
+            "drop": ["name"],
+            "steps": ["name"],
+            "flat": ["name"],
+            "callers": ["name"],
+            "names": [],
+            "sizes": [],
+            "twin": [],
+            "__len__": [],
+            "__eq__": ["other"],
+            "__repr__": [],
+        },
+    },
 }
 
 BARRED_WORDS = (
@@ -88,6 +122,62 @@ class Files(unittest.TestCase):
             self.assertEqual(len(names), len(set(names)), file.name)
             self.assertEqual([name for name in names if hasattr(builtins, name)], [])
 
+    def test_no_name_is_a_method_and_an_attribute(self):
+        methods, attributes = set(), set()
+        for file in package_files():
+            for node in ast.walk(parsed(file)):
+                if isinstance(node, ast.ClassDef):
+                    methods.update(part.name for part in node.body if isinstance(part, ast.FunctionDef))
+                if isinstance(node, ast.Attribute) and isinstance(node.ctx, ast.Store):
+                    attributes.add(node.attr)
+        self.assertIn("write", methods)
+        self.assertIn("word", attributes)
+        self.assertEqual(methods & attributes, set())
+
+    def test_local_names_are_no_builtins_imports_or_classes(self):
+        for file in package_files():
+            barred = set(dir(builtins)) | outer_names(file)
+            for node in ast.walk(parsed(file)):
+                if isinstance(node, ast.FunctionDef):
+                    self.assertEqual(local_names(node) & barred, set(), (file.name, node.name))
+
+    def test_no_generator_expressions_and_no_sets(self):
+        for file in package_files():
+            for node in ast.walk(parsed(file)):
+                self.assertNotIsInstance(node, (ast.GeneratorExp, ast.Set, ast.SetComp, ast.Div), file.name)
+
+    def test_no_two_files_import_from_each_other(self):
+        needs = {file.stem: imported_files(file) for file in package_files()}
+        left = dict(needs)
+        while left:
+            free = [name for name in left if not left[name] & set(left)]
+            self.assertNotEqual(free, [], left)
+            for name in free:
+                del left[name]
+
+
+def outer_names(file):
+    """The names of the classes and imports of a file."""
+    names = set()
+    for node in parsed(file).body:
+        if isinstance(node, ast.ClassDef):
+            names.add(node.name)
+        elif isinstance(node, ast.ImportFrom):
+            names.update(alias.asname or alias.name for alias in node.names)
+    return names
+
+
+def local_names(function):
+    """The parameters and local variables of a function."""
+    names = {part.arg for part in ast.walk(function) if isinstance(part, ast.arg)}
+    names.update(part.id for part in ast.walk(function) if isinstance(part, ast.Name) and isinstance(part.ctx, ast.Store))
+    return names
+
+
+def imported_files(file):
+    """The files of the package from which a file imports."""
+    return {node.module.split(".")[1] for node in ast.walk(parsed(file)) if isinstance(node, ast.ImportFrom)}
+
 
 def bound_names(file):
     """The names that a file defines at module level, without its imports."""
@@ -111,6 +201,17 @@ class Interface(unittest.TestCase):
                     self.assertIn(function, defined)
                     parameters = inspect.signature(getattr(module, function)).parameters
                     self.assertEqual(list(parameters), arguments)
+
+    def test_each_method_is_defined_in_its_class_itself(self):
+        for name, classes in CLASSES.items():
+            for node in parsed(PACKAGE / (name + ".py")).body:
+                if isinstance(node, ast.ClassDef) and node.name in classes:
+                    defined = {part.name: part for part in node.body if isinstance(part, ast.FunctionDef)}
+                    for method, arguments in classes[node.name].items():
+                        self.assertEqual([part.arg for part in defined[method].args.args], ["self"] + arguments)
+            module = importlib.import_module("hidelater." + name)
+            for each in classes:
+                self.assertEqual(getattr(module, each).__module__, "hidelater." + name)
 
 
 if __name__ == "__main__":

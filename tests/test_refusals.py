@@ -1,0 +1,148 @@
+"""Points [2], [3], [4], [5] and [7]: what is refused first, where one thing or more are bad in one call."""
+
+import itertools
+import unittest
+
+from hidelater.amounts import by_counts, poured, poured_all
+from hidelater.casks import GONE
+from hidelater.deeds import GREAT
+from hidelater.errors import BadCounts, BadDeed, BadRow, BadSizes, BadStand, NoDrop, Tapped, TooMany
+from hidelater.ranks import done, done_all, path
+from hidelater.tables import one_more
+from helping import BAD_SIZES, RefusalTest
+
+# Each thing that is handed in: a pair of the thing and its refusal, None for a good one. A refusal is a class with
+# its fields. All are meant for casks of SIZES.
+SIZES = (3, 40, 3)
+GOOD = None
+
+ALL_SIZES = [(SIZES, GOOD)] + [(sizes, (BadSizes, {"cask": cask})) for sizes, cask in BAD_SIZES]
+
+ALL_COUNTS = [
+    ((0, 0, 0), GOOD),
+    ((3, 40, 3), GOOD),
+    ((), (BadCounts, {"cask": -1})),
+    ((1, 2), (BadCounts, {"cask": -1})),
+    ((9, 9, 9, 9), (BadCounts, {"cask": -1})),
+    ((4, 41, 4), (BadCounts, {"cask": 0})),
+    ((3, 41, -1), (BadCounts, {"cask": 1})),
+    ((0, 0, -(10 ** 39)), (BadCounts, {"cask": 2})),
+]
+
+ALL_STANDS = [
+    ((), GOOD),
+    ((1,) * 40 + (GONE,) * 14, GOOD),
+    ((GONE,) * 61, (BadStand, {"rank": -1})),
+    ((9,) * 70, (BadStand, {"rank": -1})),
+    ((3,), (BadStand, {"rank": 0})),
+    ((0, 2, -2, 5), (BadStand, {"rank": 2})),
+    ((0, 0, 0, GONE, 0), (BadStand, {"rank": 4})),
+    ((10 ** 39, 0), (BadStand, {"rank": 0})),
+]
+
+# Deeds with the place at which they are refused; good ones have None.
+ALL_PLACES = [
+    (("over", 1, 0, 1), None),
+    (("swap", 0, 2), None),
+    ((), 0),
+    (("call", 1, 2), 0),
+    (("pour", 1, 0, 1), 0),
+    (("over", 1, 0), -1),
+    (("down", 1, 0, 1, 2, 0), -1),
+    (("tap", -1, 0), 1),
+    (("drain", GREAT, 0), 1),
+    (("drain", 0, 3), 2),
+    (("swap", 0, 1), 2),
+    (("over", 0, 1, 1), 3),
+    (("down", 0, 1, 2, 1), 4),
+]
+
+ALL_DEEDS = [(deed, None if place is None else (BadDeed, {"place": place})) for deed, place in ALL_PLACES]
+
+
+def rows_with(deed, place):
+    """Rows with a deed at the first, a middle and the last place, and a worse one behind it."""
+    good = [("over", 2, 1, 0), ("tap", 1, 2), ("drain", 1, 1)]
+    for step in (0, 2, 3):
+        row = good[:step] + [deed] + good[step:]
+        refusal = None if place is None else (BadRow, {"step": step, "place": place})
+        yield row, refusal
+        yield tuple(row), refusal
+        if place is not None:
+            yield row + [(), ("swap", -1, -1)], refusal
+
+
+ALL_ROWS = [([], GOOD), ((), GOOD)] + [each for deed, place in ALL_PLACES for each in rows_with(deed, place)]
+
+
+class InTheirOrder(RefusalTest):
+
+    def look_calls(self, call, *kinds, last=None):
+        """Each choice of one thing of each kind; last tells the refusal where all of them are good ones."""
+        seen = {}
+        for choice in itertools.product(*kinds):
+            given = [thing for thing, _ in choice]
+            due = [refusal for _, refusal in choice if refusal is not None]
+            if not due and last is not None:
+                due = [refusal for refusal in [last(*given)] if refusal is not None]
+            handed = [list(thing) if isinstance(thing, list) else thing for thing in given]
+            if due:
+                self.refused(due[0][0], due[0][1], call, *given)
+                seen[due[0][0]] = True
+            else:
+                call(*given)
+                seen[None] = True
+            self.assertEqual(given, handed)
+        return seen
+
+    def test_counts_and_a_deed(self):
+        seen = self.look_calls(poured, ALL_SIZES, ALL_COUNTS, ALL_DEEDS)
+        self.assertEqual(set(seen), {None, BadSizes, BadCounts, BadDeed})
+
+    def test_counts_and_a_row(self):
+        for call in (poured_all, one_more):
+            seen = self.look_calls(call, ALL_SIZES, ALL_COUNTS, ALL_ROWS)
+            self.assertEqual(set(seen), {None, BadSizes, BadCounts, BadRow})
+
+    def test_a_stand_and_a_deed(self):
+        stands = ALL_STANDS + [((GONE,) * 60, GOOD)]
+        deeds = ALL_DEEDS + [(("tap", 1, 0), GOOD), (("tap", 0, 0), GOOD)]
+
+        def last(sizes, stand, deed):
+            return (TooMany, {"most": 60}) if len(stand) == 60 and deed == ("tap", 1, 0) else None
+
+        seen = self.look_calls(done, ALL_SIZES, stands, deeds, last=last)
+        self.assertEqual(set(seen), {None, BadSizes, BadStand, BadDeed, TooMany})
+
+    def test_a_stand_and_a_row(self):
+        stands = ALL_STANDS + [((GONE,) * 60, GOOD)]
+
+        def last(sizes, stand, row):
+            return (TooMany, {"most": 60}) if len(stand) == 60 and ("tap", 1, 2) in row else None
+
+        seen = self.look_calls(done_all, ALL_SIZES, stands, ALL_ROWS, last=last)
+        self.assertEqual(set(seen), {None, BadSizes, BadStand, BadRow, TooMany})
+
+    def test_a_stand_a_row_and_a_rank(self):
+        stands = ALL_STANDS + [((GONE,) * 60, GOOD)]
+        ranks = [(rank, GOOD) for rank in (0, 53, 59, -1, 60, 10 ** 39)]
+
+        def last(sizes, stand, row, rank):
+            if not 0 <= rank < len(stand):
+                return (NoDrop, {"rank": rank})
+            return (TooMany, {"most": 60}) if len(stand) == 60 and ("tap", 1, 2) in row else None
+
+        seen = self.look_calls(path, ALL_SIZES, stands, ALL_ROWS, ranks, last=last)
+        self.assertEqual(set(seen), {None, BadSizes, BadStand, BadRow, NoDrop, TooMany})
+
+    def test_a_stand_and_a_row_by_counts(self):
+
+        def last(sizes, stand, row):
+            return (Tapped, {"step": row.index(("tap", 1, 2))}) if ("tap", 1, 2) in row else None
+
+        seen = self.look_calls(by_counts, ALL_SIZES, ALL_STANDS, ALL_ROWS, last=last)
+        self.assertEqual(set(seen), {None, BadSizes, BadStand, BadRow, Tapped})
+
+
+if __name__ == "__main__":
+    unittest.main()
