@@ -20,11 +20,19 @@ def look_sizes(sizes):
 def look_counts(sizes, counts):
     """Refuse what are no counts of casks of these sizes."""
     look_sizes(sizes)
+    fault = count_fault(sizes, counts)
+    if fault is not None:
+        raise BadCounts(fault)
+
+
+def count_fault(sizes, counts):
+    """The `cask` with which counts are refused, or None for good ones; the sizes are good."""
     if len(counts) != len(sizes):
-        raise BadCounts(-1)
+        return -1
     for cask, many in enumerate(counts):
         if not 0 <= many <= sizes[cask]:
-            raise BadCounts(cask)
+            return cask
+    return None
 
 
 def look_stand(sizes, stand):

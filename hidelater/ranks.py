@@ -16,9 +16,7 @@ def done_all(sizes, stand, deeds):
     """The stand behind a row of deeds."""
     look_stand(sizes, stand)
     look_row(sizes, deeds)
-    for deed in deeds:
-        stand = stand_behind(sizes, stand, deed)
-    return stand
+    return stand_behind_row(sizes, stand, deeds)
 
 
 def path(sizes, stand, deeds, rank):
@@ -93,3 +91,10 @@ def stand_behind(sizes, stand, deed):
     """The stand behind a deed, where all that is handed in is known to be good."""
     doing = DOINGS[deed[0]]
     return doing(sizes, stand, deed)
+
+
+def stand_behind_row(sizes, stand, deeds):
+    """The stand behind a row of deeds, where all that is handed in is known to be good."""
+    for deed in deeds:
+        stand = stand_behind(sizes, stand, deed)
+    return stand

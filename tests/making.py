@@ -76,3 +76,55 @@ def some_deed(chance, sizes, words=WORDS):
 def some_row(chance, sizes, words=WORDS, most=12):
     """A row of none to so many good deeds."""
     return [some_deed(chance, sizes, words) for _ in range(chance.randint(0, most))]
+
+
+def some_turning(chance, least=1, most=8):
+    """Sizes of casks that are mostly alike, and a row without taps that comes to a ring of more than one quite often."""
+    sizes = [chance.choice((1, 2, 3, 9, 40))] * chance.randint(least, 6)
+    if chance.random() < 0.4:
+        sizes[chance.randrange(len(sizes))] = chance.randint(1, 40)
+    sizes = tuple(sizes)
+    row = []
+    for _ in range(chance.randint(0, most)):
+        if alike_pairs(sizes) and chance.random() < 0.6:
+            row.append(some_deed(chance, sizes, ("swap",)))
+        elif len(sizes) > 1 and chance.random() < 0.5:
+            row.append((chance.choice(("over", "down")), chance.choice((1, 2))) + two_of(chance, sizes))
+        else:
+            row.append(some_deed(chance, sizes, ("over", "down", "drain")))
+    return sizes, row
+
+
+def two_of(chance, sizes):
+    """Two unlike casks."""
+    return tuple(chance.sample(range(len(sizes)), 2))
+
+
+def some_load(chance, least=1):
+    """Sizes, counts and a row without taps, of all kinds."""
+    if chance.random() < 0.3:
+        sizes = some_sizes(chance, least)
+        return sizes, some_counts(chance, sizes), some_row(chance, sizes, DRY_WORDS)
+    sizes, row = some_turning(chance, least)
+    return sizes, some_counts(chance, sizes), row
+
+
+# Loads whose rings have a length of twelve: a family of six and one of four share casks.
+TWELVES = (
+    (
+        (3, 3, 3, 3, 3, 3), (2, 0, 0, 1, 2, 0),
+        (("down", 1, 1, 0), ("swap", 1, 4), ("down", 1, 4, 5), ("swap", 0, 3), ("swap", 1, 3), ("swap", 0, 5),
+         ("down", 1, 4, 3), ("swap", 2, 4), ("down", 1, 1, 3), ("swap", 2, 5), ("swap", 5, 4)),
+    ),
+    (
+        (3, 3, 3, 3, 3, 3), (3, 0, 1, 2, 0, 3),
+        (("over", 1, 2, 3), ("swap", 4, 5), ("over", 1, 2, 0), ("swap", 3, 2), ("swap", 3, 1), ("swap", 3, 0),
+         ("swap", 0, 1), ("swap", 2, 4), ("swap", 5, 1), ("swap", 0, 4), ("swap", 3, 4)),
+    ),
+    (
+        (2, 2, 2, 2, 2, 2), (2, 0, 2, 2, 0, 1),
+        (("swap", 0, 4), ("swap", 2, 3), ("swap", 4, 3), ("swap", 0, 4), ("swap", 2, 1), ("swap", 2, 5),
+         ("swap", 2, 1), ("over", 1, 5, 2), ("swap", 1, 4), ("swap", 0, 3), ("over", 1, 2, 1), ("swap", 4, 2),
+         ("swap", 0, 5)),
+    ),
+)

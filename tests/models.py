@@ -77,3 +77,85 @@ def model_poured(sizes, counts, deed):
                     held[cask] += 1
                     break
     return tuple(held)
+
+
+def model_round(sizes, counts, deeds):
+    """The counts behind a row of good deeds."""
+    for deed in deeds:
+        counts = model_poured(sizes, counts, deed)
+    return counts
+
+
+def model_round_of_drops(sizes, stand, deeds):
+    """The stand behind a row of good deeds without taps."""
+    return model_done_all(sizes, stand, deeds)[-1]
+
+
+def model_walk(lead, sizes, start, deeds):
+    """A plain walk: all that comes till one comes again, and how many come ahead of that one."""
+    rows = [start]
+    while True:
+        following = lead(sizes, rows[-1], deeds)
+        if following in rows:
+            return rows, rows.index(following)
+        rows.append(following)
+
+
+def model_turns(sizes, counts, deeds):
+    """The counts that come again, from the first ones on."""
+    rows, ahead = model_walk(model_round, sizes, counts, deeds)
+    return rows[ahead:]
+
+
+def model_kin(sizes, counts, deeds):
+    """The kin paper, by the words of point [14] one after the other."""
+    rows = model_turns(sizes, counts, deeds)
+    casks = range(len(sizes))
+    least = tuple(min(row[cask] for row in rows) for cask in casks)
+    greatest = tuple(max(row[cask] for row in rows) for cask in casks)
+
+    def least_with(many, owned):
+        those = [row for row in rows if row[owned] >= many]
+        return tuple(min(row[cask] for row in those) for cask in casks)
+
+    left = {least_with(many, cask) for cask in casks for many in range(least[cask] + 1, greatest[cask] + 1)}
+    owned = {
+        member: tuple(
+            cask for cask in casks if member[cask] > least[cask] and least_with(member[cask], cask) == member)
+        for member in left
+    }
+    families = []
+    while left:
+        family = [min(left)]
+        while len(family) == 1 or family[-1] != family[0]:
+            family.append(model_round(sizes, family[-1], deeds))
+        families.append([(member, owned[member]) for member in family[:-1]])
+        left -= set(family)
+    return least, families
+
+
+def model_are_counts(sizes, counts):
+    """Whether a tuple of numbers is counts."""
+    return len(counts) == len(sizes) and all(0 <= many <= size for many, size in zip(counts, sizes))
+
+
+def model_kin_holds(sizes, counts, deeds, paper):
+    """Whether a kin paper holds, by the words of point [15] one after the other."""
+    least, families = paper
+    if not model_are_counts(sizes, least) or model_round(sizes, least, deeds) != least:
+        return False
+    level = list(least)
+    for family in families:
+        owned = [cask for _, casks in family for cask in casks]
+        if not family or len(set(owned)) < len(owned) or not set(owned) <= set(range(len(sizes))):
+            return False
+        for number, (member, casks) in enumerate(family):
+            if not model_are_counts(sizes, member) or not casks:
+                return False
+            if any(member[cask] <= least[cask] for cask in casks):
+                return False
+            if model_round(sizes, member, deeds) != family[(number + 1) % len(family)][0]:
+                return False
+            if all(here <= there for here, there in zip(member, counts)):
+                level = [max(here, there) for here, there in zip(member, level)]
+    return tuple(level) == counts

@@ -1,4 +1,4 @@
-"""Points [2], [3], [4], [5] and [7]: what is refused first, where one thing or more are bad in one call."""
+"""Points [2], [3], [4], [5], [7] and [12]: what is refused first, where one thing or more are bad in one call."""
 
 import itertools
 import unittest
@@ -6,7 +6,10 @@ import unittest
 from hidelater.amounts import by_counts, poured, poured_all
 from hidelater.casks import GONE
 from hidelater.deeds import GREAT
-from hidelater.errors import BadCounts, BadDeed, BadRow, BadSizes, BadStand, NoDrop, Tapped, TooMany
+from hidelater.errors import BadCounts, BadDeed, BadRow, BadSizes, BadStand, BadTimes, NoDrop, Tapped, TooMany
+from hidelater.far import FAR, behind, behind_counts, ring, ring_of_counts, turns
+from hidelater.kin import ends, kin, kin_holds
+from hidelater.meets import apart_at_last, meet
 from hidelater.ranks import done, done_all, path
 from hidelater.tables import one_more
 from helping import BAD_SIZES, RefusalTest
@@ -73,6 +76,22 @@ def rows_with(deed, place):
 
 
 ALL_ROWS = [([], GOOD), ((), GOOD)] + [each for deed, place in ALL_PLACES for each in rows_with(deed, place)]
+
+# Rows to be done again and again: bad ones, those with a tap, and dry ones.
+AGAIN = (
+    [([], GOOD), ([("swap", 0, 2), ("over", 2, 1, 0)], GOOD), ((("drain", 1, 2), ("down", 1, 1, 2, 0)), GOOD)]
+    + [(row, refusal) for row, refusal in ALL_ROWS if refusal is not None]
+    + [
+        ([("tap", 0, 1)], (Tapped, {"step": 0})),
+        ((("swap", 0, 2), ("drain", 1, 2), ("tap", 1, 0), ("tap", 2, 0)), (Tapped, {"step": 2})),
+    ]
+)
+
+ALL_TIMES = [(0, GOOD), (1, GOOD), (FAR - 1, GOOD)] + [
+    (times, (BadTimes, {"word": "bad times"})) for times in (-1, FAR, -(10 ** 309), 10 ** 310 - 1)]
+
+# Kin papers that don't hold for most counts, which is no refusal.
+PAPERS = [(((0, 0, 0), []), GOOD), (((), [[], [((9,) * 7, (-1, 10 ** 39))]]), GOOD)]
 
 
 class InTheirOrder(RefusalTest):
@@ -142,6 +161,32 @@ class InTheirOrder(RefusalTest):
 
         seen = self.look_calls(by_counts, ALL_SIZES, ALL_STANDS, ALL_ROWS, last=last)
         self.assertEqual(set(seen), {None, BadSizes, BadStand, BadRow, Tapped})
+
+    def test_a_stand_a_row_and_times(self):
+        seen = self.look_calls(behind, ALL_SIZES, ALL_STANDS, AGAIN, ALL_TIMES)
+        self.assertEqual(set(seen), {None, BadSizes, BadStand, BadRow, Tapped, BadTimes})
+
+    def test_counts_a_row_and_times(self):
+        seen = self.look_calls(behind_counts, ALL_SIZES, ALL_COUNTS, AGAIN, ALL_TIMES)
+        self.assertEqual(set(seen), {None, BadSizes, BadCounts, BadRow, Tapped, BadTimes})
+
+    def test_a_stand_and_a_row_again_and_again(self):
+        seen = self.look_calls(ring, ALL_SIZES, ALL_STANDS, AGAIN)
+        self.assertEqual(set(seen), {None, BadSizes, BadStand, BadRow, Tapped})
+
+    def test_counts_and_a_row_again_and_again(self):
+        for call in (ring_of_counts, turns, ends, kin):
+            seen = self.look_calls(call, ALL_SIZES, ALL_COUNTS, AGAIN)
+            self.assertEqual(set(seen), {None, BadSizes, BadCounts, BadRow, Tapped})
+
+    def test_counts_a_row_and_a_kin_paper(self):
+        seen = self.look_calls(kin_holds, ALL_SIZES, ALL_COUNTS, AGAIN, PAPERS)
+        self.assertEqual(set(seen), {None, BadSizes, BadCounts, BadRow, Tapped})
+
+    def test_two_counts_and_a_row(self):
+        for call in (meet, apart_at_last):
+            seen = self.look_calls(call, ALL_SIZES, ALL_COUNTS, ALL_COUNTS, AGAIN)
+            self.assertEqual(set(seen), {None, BadSizes, BadCounts, BadRow, Tapped})
 
 
 if __name__ == "__main__":

@@ -44,6 +44,22 @@ INTERFACE = {
         "one_more": ["sizes", "counts", "deeds"],
         "joined": ["first", "second"],
     },
+    "far": {
+        "behind": ["sizes", "stand", "deeds", "times"],
+        "behind_counts": ["sizes", "counts", "deeds", "times"],
+        "ring": ["sizes", "stand", "deeds"],
+        "ring_of_counts": ["sizes", "counts", "deeds"],
+        "turns": ["sizes", "counts", "deeds"],
+    },
+    "kin": {
+        "ends": ["sizes", "counts", "deeds"],
+        "kin": ["sizes", "counts", "deeds"],
+        "kin_holds": ["sizes", "counts", "deeds", "paper"],
+    },
+    "meets": {
+        "meet": ["sizes", "one", "other", "deeds"],
+        "apart_at_last": ["sizes", "one", "other", "deeds"],
+    },
 }
 
 # The classes of the interface by file, each with its methods and their arguments behind the object itself.
