@@ -1,6 +1,6 @@
 """Sizes, counts and stands of casks, and tuples of numbers compared place by place."""
 
-from hidelater.errors import BadCounts, BadSizes, BadStand, NoDrop, TooMany
+from hidelater.errors import BadCounts, BadSizes, BadStand, NoCask, NoDrop, TooMany
 
 MOST_CASKS = 6
 MOST_SIZE = 40
@@ -47,6 +47,12 @@ def look_stand(sizes, stand):
         if not 0 <= cask < len(sizes) or free[cask] == 0:
             raise BadStand(rank)
         free[cask] -= 1
+
+
+def look_cask(sizes, cask):
+    """Refuse a cask that there isn't; the sizes are good."""
+    if not 0 <= cask < len(sizes):
+        raise NoCask(cask)
 
 
 def counts_of(sizes, stand):

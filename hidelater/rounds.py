@@ -23,11 +23,7 @@ class Book:
 
     def write(self, name, steps):
         """Write a round."""
-        look_name(name)
-        if name in self.written:
-            raise Taken(name)
-        if len(self.written) >= MOST_ROUNDS:
-            raise TooMany(MOST_ROUNDS)
+        self.look_fresh(name)
         self.look_steps(steps)
         if sum([self.count_deeds(step) for step in steps]) > MOST_FLAT:
             raise TooLong(MOST_FLAT)
@@ -72,6 +68,15 @@ class Book:
         other.laid = dict(self.laid)
         return other
 
+    def look_fresh(self, name):
+        """Refuse a name under which no round can be written now."""
+        if not is_name(name):
+            raise BadName()
+        if name in self.written:
+            raise Taken(name)
+        if len(self.written) >= MOST_ROUNDS:
+            raise TooMany(MOST_ROUNDS)
+
     def look_written(self, name):
         """Refuse a name of no round."""
         if name not in self.written:
@@ -115,10 +120,9 @@ class Book:
         return f"Book({len(self.written)} rounds)"
 
 
-def look_name(name):
-    """Refuse what can't be the name of a round."""
-    if not 1 <= len(name) <= MOST_LETTERS or not all([sign in LETTERS for sign in name]):
-        raise BadName()
+def is_name(name):
+    """Whether a text can be the name of a round."""
+    return 1 <= len(name) <= MOST_LETTERS and all([sign in LETTERS for sign in name])
 
 
 def step_fault(sizes, step):

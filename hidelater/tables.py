@@ -3,22 +3,28 @@
 from hidelater.amounts import counts_behind_row, gained
 from hidelater.casks import GONE, look_counts
 from hidelater.deeds import look_row
+from hidelater.far import far_behind
 
 
 def one_more(sizes, counts, deeds):
     """The table of a row of deeds and of counts."""
     look_counts(sizes, counts)
     look_row(sizes, deeds)
-    last = counts_behind_row(sizes, counts, deeds)
-    return tuple([end_of_one(sizes, counts, deeds, cask, last) for cask in range(len(sizes))])
+    return table_behind(sizes, counts, deeds, 1)
 
 
-def end_of_one(sizes, counts, deeds, cask, last):
+def table_behind(sizes, counts, deeds, times):
+    """The table of a row done so many times, where all that is handed in is known to be good."""
+    last = far_behind(counts_behind_row, sizes, counts, deeds, times)
+    return tuple([end_of_one(sizes, counts, deeds, times, cask, last) for cask in range(len(sizes))])
+
+
+def end_of_one(sizes, counts, deeds, times, cask, last):
     """Where one drop more in a cask makes one more than the counts at last, as in a table."""
     if counts[cask] == sizes[cask]:
         return None
     more = counts[:cask] + (counts[cask] + 1,) + counts[cask + 1:]
-    return gained(last, counts_behind_row(sizes, more, deeds))
+    return gained(last, far_behind(counts_behind_row, sizes, more, deeds, times))
 
 
 def joined(first, second):

@@ -1,16 +1,20 @@
-"""Points [2], [3], [4], [5], [7] and [12]: what is refused first, where one thing or more are bad in one call."""
+"""Points [2], [3], [4], [5], [7], [12] and [16]: what is refused first, where one thing or more are bad in one call."""
 
 import itertools
 import unittest
 
 from hidelater.amounts import by_counts, poured, poured_all
-from hidelater.casks import GONE
-from hidelater.deeds import GREAT
-from hidelater.errors import BadCounts, BadDeed, BadRow, BadSizes, BadStand, BadTimes, NoDrop, Tapped, TooMany
+from hidelater.asks import first_time, never, never_holds, when
+from hidelater.casks import GONE, counts_of, look_counts, look_sizes, look_stand, room, stand_of
+from hidelater.deeds import GREAT, has_tap, look_deed, look_row
+from hidelater.errors import (
+    BadCounts, BadDeed, BadRow, BadSizes, BadStand, BadTimes, NoCask, NoDrop, Tapped, TooMany)
 from hidelater.far import FAR, behind, behind_counts, ring, ring_of_counts, turns
 from hidelater.kin import ends, kin, kin_holds
+from hidelater.loft import Loft
 from hidelater.meets import apart_at_last, meet
 from hidelater.ranks import done, done_all, path
+from hidelater.rounds import Book
 from hidelater.tables import one_more
 from helping import BAD_SIZES, RefusalTest
 
@@ -92,6 +96,11 @@ ALL_TIMES = [(0, GOOD), (1, GOOD), (FAR - 1, GOOD)] + [
 
 # Kin papers that don't hold for most counts, which is no refusal.
 PAPERS = [(((0, 0, 0), []), GOOD), (((), [[], [((9,) * 7, (-1, 10 ** 39))]]), GOOD)]
+
+CASKS = [(0, GOOD), (2, GOOD)] + [(cask, (NoCask, {"cask": cask})) for cask in (-1, 3, 10 ** 39, -(10 ** 39))]
+
+# Never papers that show nothing for most counts, which is no refusal.
+NEVERS = [(([], (3, 40, 3)), GOOD), (([(), (9,) * 7], (-1, 10 ** 39)), GOOD)]
 
 
 class InTheirOrder(RefusalTest):
@@ -187,6 +196,77 @@ class InTheirOrder(RefusalTest):
         for call in (meet, apart_at_last):
             seen = self.look_calls(call, ALL_SIZES, ALL_COUNTS, ALL_COUNTS, AGAIN)
             self.assertEqual(set(seen), {None, BadSizes, BadCounts, BadRow, Tapped})
+
+    def test_counts_a_row_and_a_cask(self):
+        for ask in (when, first_time, never):
+            for least in (-1, 1, 10 ** 39):
+                seen = self.look_calls(
+                    lambda sizes, counts, row, cask: ask(sizes, counts, row, least=least, cask=cask),
+                    ALL_SIZES, ALL_COUNTS, AGAIN, CASKS)
+                self.assertEqual(set(seen), {None, BadSizes, BadCounts, BadRow, Tapped, NoCask})
+
+    def test_counts_a_row_a_never_paper_and_a_cask(self):
+        seen = self.look_calls(
+            lambda sizes, counts, row, paper, cask: never_holds(sizes, counts, row, paper, cask=cask),
+            ALL_SIZES, ALL_COUNTS, AGAIN, NEVERS, CASKS)
+        self.assertEqual(set(seen), {None, BadSizes, BadCounts, BadRow, Tapped, NoCask})
+
+
+# Every door through which sizes come in, with worse things beside them.
+COUNTS, STAND, DEED, ROW, TIMES = (-1,) * 7, (9,) * 61, (), [(), ("tap", 1, 0)], -1
+DOORS = {
+    "look_sizes": lambda sizes: look_sizes(sizes),
+    "look_counts": lambda sizes: look_counts(sizes, COUNTS),
+    "look_stand": lambda sizes: look_stand(sizes, STAND),
+    "counts_of": lambda sizes: counts_of(sizes, STAND),
+    "stand_of": lambda sizes: stand_of(sizes, COUNTS),
+    "room": lambda sizes: room(sizes, COUNTS),
+    "look_deed": lambda sizes: look_deed(sizes, DEED),
+    "look_row": lambda sizes: look_row(sizes, ROW),
+    "has_tap": lambda sizes: has_tap(sizes, ROW),
+    "done": lambda sizes: done(sizes, STAND, DEED),
+    "done_all": lambda sizes: done_all(sizes, STAND, ROW),
+    "path": lambda sizes: path(sizes, STAND, ROW, -1),
+    "poured": lambda sizes: poured(sizes, COUNTS, DEED),
+    "poured_all": lambda sizes: poured_all(sizes, COUNTS, ROW),
+    "by_counts": lambda sizes: by_counts(sizes, STAND, ROW),
+    "one_more": lambda sizes: one_more(sizes, COUNTS, ROW),
+    "Book": lambda sizes: Book(sizes),
+    "behind": lambda sizes: behind(sizes, STAND, ROW, TIMES),
+    "behind_counts": lambda sizes: behind_counts(sizes, COUNTS, ROW, TIMES),
+    "ring": lambda sizes: ring(sizes, STAND, ROW),
+    "ring_of_counts": lambda sizes: ring_of_counts(sizes, COUNTS, ROW),
+    "turns": lambda sizes: turns(sizes, COUNTS, ROW),
+    "ends": lambda sizes: ends(sizes, COUNTS, ROW),
+    "kin": lambda sizes: kin(sizes, COUNTS, ROW),
+    "kin_holds": lambda sizes: kin_holds(sizes, COUNTS, ROW, ((), [])),
+    "meet": lambda sizes: meet(sizes, COUNTS, COUNTS, ROW),
+    "apart_at_last": lambda sizes: apart_at_last(sizes, COUNTS, COUNTS, ROW),
+    "when": lambda sizes: when(sizes, COUNTS, ROW, cask=-1),
+    "first_time": lambda sizes: first_time(sizes, COUNTS, ROW, cask=-1),
+    "never": lambda sizes: never(sizes, COUNTS, ROW, cask=-1),
+    "never_holds": lambda sizes: never_holds(sizes, COUNTS, ROW, ([], ()), cask=-1),
+    "Loft": lambda sizes: Loft(sizes, stand=STAND),
+}
+
+
+class EveryDoor(RefusalTest):
+
+    def test_bad_sizes_go_ahead_of_all_else(self):
+        for name, door in DOORS.items():
+            for sizes, cask in BAD_SIZES:
+                with self.subTest(door=name, sizes=sizes):
+                    self.refused(BadSizes, {"cask": cask, "word": "bad sizes"}, door, sizes)
+
+    def test_good_sizes_are_let_in(self):
+        for name, door in DOORS.items():
+            for sizes in ((1,), (40,), (3, 40, 3), (1, 2, 3, 4, 5, 6), (40,) * 6):
+                if name in ("look_sizes", "Book"):
+                    door(sizes)
+                    continue
+                with self.subTest(door=name, sizes=sizes):
+                    with self.assertRaises((BadCounts, BadStand, BadDeed, BadRow)):
+                        door(sizes)
 
 
 if __name__ == "__main__":

@@ -10,7 +10,7 @@ import unittest
 
 PACKAGE = pathlib.Path(__file__).resolve().parent.parent / "hidelater"
 
-# The functions and classes of the interface, with their arguments, by file; errors.py has its own test.
+# The functions of the interface, with their arguments as they are written, by file; errors.py has its own test.
 INTERFACE = {
     "casks": {
         "look_sizes": ["sizes"],
@@ -60,6 +60,20 @@ INTERFACE = {
         "meet": ["sizes", "one", "other", "deeds"],
         "apart_at_last": ["sizes", "one", "other", "deeds"],
     },
+    "asks": {
+        "when": ["sizes", "counts", "deeds", "*", "cask", "least=1"],
+        "first_time": ["sizes", "counts", "deeds", "*", "cask", "least=1"],
+        "never": ["sizes", "counts", "deeds", "*", "cask", "least=1"],
+        "never_holds": ["sizes", "counts", "deeds", "paper", "*", "cask", "least=1"],
+    },
+    "texts": {
+        "step_text": ["step"],
+        "read_step": ["text"],
+    },
+    "pages": {
+        "page": ["loft"],
+        "read_page": ["text"],
+    },
 }
 
 # The classes of the interface by file, each with its methods and their arguments behind the object itself.
@@ -80,6 +94,46 @@ CLASSES = {
             "__repr__": [],
         },
     },
+    "loft": {
+        "Loft": {
+            "__init__": ["sizes", "*", "stand=()"],
+            "do": ["deed"],
+            "all_of": ["deeds"],
+            "run": ["name", "*", "times=1"],
+            "write": ["name", "steps"],
+            "drop": ["name"],
+            "undo": [],
+            "redo": [],
+            "steps": [],
+            "left": [],
+            "sizes": [],
+            "stand": [],
+            "counts": [],
+            "rounds": [],
+            "drops": [],
+            "where": ["rank"],
+            "ranks": ["cask"],
+            "gone": [],
+            "path": ["rank"],
+            "one_more": [],
+            "ring": ["name"],
+            "apart": ["other"],
+            "hidden": ["many"],
+            "twin": [],
+            "__len__": [],
+            "__eq__": ["other"],
+            "__str__": [],
+            "__repr__": [],
+        },
+    },
+}
+
+# The numbers of the interface by file.
+BOUNDS = {
+    "casks": {"MOST_CASKS": 6, "MOST_SIZE": 40, "MOST_DROPS": 60, "GONE": -1},
+    "deeds": {"GREAT": 10 ** 30, "MOST_ROW": 400},
+    "rounds": {"MOST_ROUNDS": 12, "MOST_FLAT": 200, "MOST_CALLS": 9},
+    "far": {"FAR": 10 ** 300},
 }
 
 BARRED_WORDS = (
@@ -206,6 +260,12 @@ def bound_names(file):
     return names
 
 
+def arguments_of(function):
+    """The arguments of a function as they are written."""
+    text = str(inspect.signature(function))[1:-1]
+    return text.split(", ") if text else []
+
+
 class Interface(unittest.TestCase):
 
     def test_defined_in_its_file_with_its_arguments(self):
@@ -215,19 +275,24 @@ class Interface(unittest.TestCase):
             for function, arguments in functions.items():
                 with self.subTest(file=name, function=function):
                     self.assertIn(function, defined)
-                    parameters = inspect.signature(getattr(module, function)).parameters
-                    self.assertEqual(list(parameters), arguments)
+                    self.assertEqual(arguments_of(getattr(module, function)), arguments)
 
     def test_each_method_is_defined_in_its_class_itself(self):
         for name, classes in CLASSES.items():
-            for node in parsed(PACKAGE / (name + ".py")).body:
-                if isinstance(node, ast.ClassDef) and node.name in classes:
-                    defined = {part.name: part for part in node.body if isinstance(part, ast.FunctionDef)}
-                    for method, arguments in classes[node.name].items():
-                        self.assertEqual([part.arg for part in defined[method].args.args], ["self"] + arguments)
             module = importlib.import_module("hidelater." + name)
-            for each in classes:
-                self.assertEqual(getattr(module, each).__module__, "hidelater." + name)
+            for each, methods in classes.items():
+                kind = getattr(module, each)
+                self.assertEqual(kind.__module__, "hidelater." + name)
+                for method, arguments in methods.items():
+                    with self.subTest(kind=each, method=method):
+                        self.assertIn(method, vars(kind))
+                        self.assertEqual(arguments_of(vars(kind)[method]), ["self"] + arguments)
+
+    def test_bounds(self):
+        for name, bounds in BOUNDS.items():
+            module = importlib.import_module("hidelater." + name)
+            for bound, worth in bounds.items():
+                self.assertEqual(getattr(module, bound), worth)
 
 
 if __name__ == "__main__":
