@@ -79,7 +79,7 @@ def some_row(chance, sizes, words=WORDS, most=12):
 
 
 def some_turning(chance, least=1, most=8):
-    """Sizes of casks that are mostly alike, and a row without taps that comes to a ring of more than one quite often."""
+    """Sizes of casks that are mostly alike, and a row without taps that quite often comes to a long ring."""
     sizes = [chance.choice((1, 2, 3, 9, 40))] * chance.randint(least, 6)
     if chance.random() < 0.4:
         sizes[chance.randrange(len(sizes))] = chance.randint(1, 40)

@@ -84,7 +84,7 @@ class When(unittest.TestCase):
     def test_at_any_times(self):
         for chance, sizes, counts, row, cask, least in asks(102, 300):
             early, ahead, length, rests = when(sizes, counts, row, cask=cask, least=least)
-            some = [chance.randrange(FAR), chance.randrange(10 ** 40), FAR - 1 - chance.randrange(20), chance.randrange(30)]
+            some = [chance.randrange(bound) for bound in (FAR, 10 ** 40, 30)] + [FAR - 1 - chance.randrange(20)]
             for times in some + list(range(max(0, ahead - 2), ahead + length + 2)):
                 there = behind_counts(sizes, counts, row, times)[cask] >= least
                 told = times in early if times < ahead else (times - ahead) % length in rests

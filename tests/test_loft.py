@@ -113,8 +113,10 @@ class Doing(LoftTest):
     def test_bad_deeds(self):
         loft = a_loft()
         loft.undo()
-        for deed, place in (((), 0), (("call", "ebb", 1), 0), (("pour", 1, 0), 0), (("tap", 1), -1), (("tap", -1, 0), 1),
-                            (("drain", GREAT, 0), 1), (("tap", 1, 3), 2), (("swap", 0, 2), 2), (("over", 1, 0, 0), 3)):
+        for deed, place in (
+            ((), 0), (("call", "ebb", 1), 0), (("pour", 1, 0), 0), (("tap", 1), -1), (("tap", -1, 0), 1),
+            (("drain", GREAT, 0), 1), (("tap", 1, 3), 2), (("swap", 0, 2), 2), (("over", 1, 0, 0), 3),
+        ):
             self.refused_for_nothing(BadDeed, {"place": place}, loft, loft.do, deed)
             for number in range(3):
                 row = [SWAP] * number + [deed, ()]
@@ -253,7 +255,8 @@ class Running(LoftTest):
         loft.write("a", [("over", 1, 1, 0)])
         loft.run("a", times=10 ** 100)
         stands = [(0, 0, 1), (0, 0, 1), (1, 1, 0), (1, 1, 0), (1, 1, 0), (0, 0, 0)]
-        self.assertEqual([loft.path(rank) for rank in range(3)], [[stand[rank] for stand in stands] for rank in range(3)])
+        for rank in range(3):
+            self.assertEqual(loft.path(rank), [stand[rank] for stand in stands])
         self.assertEqual(loft.one_more(), (0, 0))
         told = [("write", "a", (SWAP,)), ("run", "a", 3), ("drop", "a"), ("write", "a", (("over", 1, 1, 0),)),
                 ("run", "a", 10 ** 100)]
@@ -641,7 +644,9 @@ class Equal(LoftTest):
 
     def test_to_nothing_else(self):
         for loft in (Loft((3,)), a_loft()):
-            for other in (None, 0, 1, True, False, "", str(loft), (), [], {}, loft.stand(), loft.rounds(), Loft, object()):
+            for other in (
+                None, 0, 1, True, False, "", str(loft), (), [], {}, loft.stand(), loft.rounds(), Loft, object(),
+            ):
                 self.assertIs(loft == other, False)
                 self.assertIs(other == loft, False)
                 self.assertIs(loft != other, True)

@@ -419,7 +419,8 @@ class Wholes(unittest.TestCase):
             loft = Loft(sizes, stand=some_stand(chance, sizes))
             self.act(loft, self.some_acts(chance, sizes, DRY_WORDS))
             ahead = (loft.stand(), loft.steps(), loft.left(), page(loft))
-            loft.ring("a") if loft.rounds().names() else None
+            for name in loft.rounds().names():
+                loft.ring(name)
             loft.hidden(loft.drops()).do(("drain", 1, 0))
             loft.twin().do(("drain", 1, 0))
             loft.apart(loft)

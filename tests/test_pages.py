@@ -223,15 +223,19 @@ class OtherTexts(RefusalTest):
         self.bad(5, "casks 3\ndrops\nround a\nend\nround b\n")
 
     def test_rows_behind(self):
-        for more in ("\n", " ", "x", "end\n", "end", "tap 1 0\n", "drops\n", "casks 3\n", "\n\n", "round", "round\n",
-                     "round \n", "round  a\n", " round a\n", "round a \n", "round A\n", "round abcdefghi\n", "Round a\n"):
+        for more in (
+            "\n", " ", "x", "end\n", "end", "tap 1 0\n", "drops\n", "casks 3\n", "\n\n", "round", "round\n", "round \n",
+            "round  a\n", " round a\n", "round a \n", "round A\n", "round abcdefghi\n", "Round a\n",
+        ):
             self.bad(2, "casks 3\ndrops\n" + more)
             self.bad(9, PLAIN + more)
 
     def test_casks(self):
-        for row in ("casks", "casks ", "casks  3", " casks 3", "casks 3 ", "casks 0", "casks 41", "casks 3 0", "casks -1",
-                    "casks 03", "casks 3 3 3 3 3 3 3", "casks a", "cask 3", "Casks 3", "casks 3,3", "casks -", "3",
-                    "casks +3", "casks " + "9" * 30, "casks " + "9" * 31, "casks 1" + "0" * 30, "drops", "casks3"):
+        for row in (
+            "casks", "casks ", "casks  3", " casks 3", "casks 3 ", "casks 0", "casks 41", "casks 3 0", "casks -1",
+            "casks 03", "casks 3 3 3 3 3 3 3", "casks a", "cask 3", "Casks 3", "casks 3,3", "casks -", "3", "casks +3",
+            "casks " + "9" * 30, "casks " + "9" * 31, "casks 1" + "0" * 30, "drops", "casks3",
+        ):
             self.bad(0, row + "\ndrops\n")
             self.bad(0, row + "\nnonsense\n")
 
@@ -245,8 +249,9 @@ class OtherTexts(RefusalTest):
     def test_steps(self):
         rows = (
             "", " ", "tap 1", "tap 1 0 0", "tap 01 0", "tap -1 0", "tap 1 2", "tap 0 -1", "swap 0 0", "swap 0 2",
-            "swap 0 1 ", " swap 0 1", "over 1 0", "over 1 0 0", "over 1 0 1 0", "over 1 0 1 2", "drain 1  0", "Drain 1 0",
-            "drain 1" + "0" * 30 + " 0", "call a 1", "call none 0", "call b 10", "call b -1", "call b", "call b 1 1",
+            "swap 0 1 ", " swap 0 1", "over 1 0", "over 1 0 0", "over 1 0 1 0", "over 1 0 1 2", "drain 1  0",
+            "Drain 1 0", "drain 1" + "0" * 30 + " 0", "call a 1", "call none 0", "call b 10", "call b -1", "call b",
+            "call b 1 1",
             "call B 1", "call b 01", "pour 1 0 1", "End", "end ", " end", "round c", "casks 3 3", "drops", "-")
         for row in rows:
             self.bad(5, f"casks 3 3\ndrops\nround b\nend\nround a\n{row}\nend\n")

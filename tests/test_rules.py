@@ -240,7 +240,8 @@ def outer_names(file):
 def local_names(function):
     """The parameters and local variables of a function."""
     names = {part.arg for part in ast.walk(function) if isinstance(part, ast.arg)}
-    names.update(part.id for part in ast.walk(function) if isinstance(part, ast.Name) and isinstance(part.ctx, ast.Store))
+    stored = [part for part in ast.walk(function) if isinstance(part, ast.Name) and isinstance(part.ctx, ast.Store)]
+    names.update(part.id for part in stored)
     return names
 
 

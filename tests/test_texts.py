@@ -91,8 +91,10 @@ class OtherTexts(RefusalTest):
         self.refused(BadText, {"row": 0}, read_step, text)
 
     def test_no_text_and_words(self):
-        for text in ("", " ", "  ", "over", "call", "0", "1 2 3", "pour 1 2", "end", "round a", "casks 3", "drops 0",
-                     "Over 1 0 1", "OVER 1 0 1", "overs 1 0 1", "ove 1 0 1", "tap", "TAP 1 2", "swap,0,1", "-", "a" * 6000):
+        for text in (
+            "", " ", "  ", "over", "call", "0", "1 2 3", "pour 1 2", "end", "round a", "casks 3", "drops 0",
+            "Over 1 0 1", "OVER 1 0 1", "overs 1 0 1", "ove 1 0 1", "tap", "TAP 1 2", "swap,0,1", "-", "a" * 6000,
+        ):
             self.bad(text)
 
     def test_numbers(self):
